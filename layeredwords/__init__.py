@@ -1,0 +1,1 @@
+"""Layeredwords: settings of many layers, and what each reader sees."""
