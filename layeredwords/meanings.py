@@ -108,6 +108,16 @@ def follow(first, second):
     )
 
 
+def follow_all(meanings):
+    """The meaning of meanings, which are known to be such, one after the other."""
+    left = list(meanings)
+    # In pairs: from the first one on, a long value would be copied for each statement.
+    while len(left) > 1:
+        odd = left[len(left) // 2 * 2:]
+        left = [follow(first, second) for first, second in zip(left[::2], left[1::2])] + odd
+    return left[0] if left else nothing()
+
+
 def value_behind(meaning, value):
     """The value, or None, that a meaning makes of a value, or of None, that is not locked."""
     if meaning[0] == "const":

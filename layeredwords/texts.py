@@ -9,6 +9,7 @@ MOST_LINES = 2000
 MOST_WHENS = 20
 ITEM_SIGNS = "abcdefghijklmnopqrstuvwxyzABCDEFGHIJKLMNOPQRSTUVWXYZ0123456789_-/.:@"
 WORD_OF_SIGN = {"=": "set", "+=": "append", "^=": "prepend", "-=": "drop", "?=": "default"}
+SIGN_OF_WORD = {"set": "=", "append": "+=", "prepend": "^=", "drop": "-=", "default": "?="}
 
 
 def is_item(value):
@@ -117,6 +118,21 @@ def read_statements(text):
             word, key, items = form
             found.append((at, name_of(section, key), word, items, tuple(conditions)))
     return tuple(found)
+
+
+def read_whens(text):
+    """The conditions of all whens of a string that is known to be a text."""
+    forms = [form_of(line) for line in rows_of(text)]
+    return tuple([form[1:] for form in forms if form[0] == "when"])
+
+
+def statement_line(word, key, items):
+    """The line of a statement, without blanks or a comment."""
+    if word not in SIGN_OF_WORD:
+        return f"{word} {key}"
+    ahead = f"{key} {SIGN_OF_WORD[word]}"
+    listed = ", ".join(items)
+    return f"{ahead} {listed}" if items else ahead
 
 
 def first_fault(text):

@@ -53,6 +53,12 @@ def name_of(section, key):
     return f"{section}.{key}" if section else key
 
 
+def section_and_key(name):
+    """The section of a name, which is empty if it has none, and its key."""
+    section, _, key = name.rpartition(".")
+    return (section, key)
+
+
 def fits(word, items):
     """Whether a statement of this word may have as many items as there are."""
     if word in WORDS_WITHOUT_ITEMS:

@@ -40,6 +40,10 @@ class Rules(unittest.TestCase):
             "errors": ("LayerError", "BadValue", "BadLine", "TooMany", "BadSyntax"),
             "texts": ("is_item", "is_name", "is_reader", "is_text", "lines_of", "joined", "statements"),
             "meanings": ("is_meaning", "nothing", "meaning_of", "then", "act"),
+            "seeing": ("see", "why"),
+            "readers": ("facts_of", "readers", "names_of"),
+            "comparing": ("meaning", "alike", "apart"),
+            "normal": ("normal", "normal_text"),
         }
         for name, wanted in listed.items():
             tree = ast.parse((PACKAGE / f"{name}.py").read_text())
