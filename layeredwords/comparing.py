@@ -4,7 +4,7 @@ from layeredwords.meanings import follow, statement_meaning, trials, value_behin
 from layeredwords.readers import check_readers, facts_in
 from layeredwords.rows import lowest_fact, meaning_of_rows, rows_by_name, split, values_on
 from layeredwords.seeing import check_question, meaning_for
-from layeredwords.texts import check_stack, joined, statement_line
+from layeredwords.texts import check_stack, joined, section_line, statement_line
 from layeredwords.words import section_and_key
 
 
@@ -95,4 +95,4 @@ def setting_text(name, items):
     """A text that sets a name to these items."""
     section, key = section_and_key(name)
     line = statement_line("set", key, items)
-    return joined([f"[{section}]", line] if section else [line])
+    return joined([section_line(section), line] if section else [line])

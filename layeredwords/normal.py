@@ -3,7 +3,8 @@
 from layeredwords.errors import BadValue, TooMany
 from layeredwords.readers import check_readers, facts_in
 from layeredwords.rows import lowest_fact, meaning_of_rows, rows_by_name, split, values_on
-from layeredwords.texts import MOST_LINES, check_stack, is_name, joined, statement_line
+from layeredwords.texts import MOST_LINES, check_stack, is_name, joined, lines_of
+from layeredwords.texts import section_at_end, section_line, statement_line
 from layeredwords.words import name_of, section_and_key
 
 
@@ -21,12 +22,19 @@ def normal_text(stack):
     check_stack(stack, 1)
     check_readers(facts_in(stack))
     rows = rows_by_name(stack)
-    lines = []
-    last = ""
-    for section, key in sorted([section_and_key(name) for name in rows]):
-        own = lines_of_form(normal_form(rows[name_of(section, key)]), key)
+    names = [name_of(section, key) for section, key in sorted([section_and_key(name) for name in rows])]
+    return text_with_forms("", [(name, normal_form(rows[name])) for name in names])
+
+
+def text_with_forms(text, forms):
+    """A text with the lines of normal forms, pairs (name, form), behind it."""
+    lines = list(lines_of(text))
+    last = section_at_end(text)
+    for name, form in forms:
+        section, key = section_and_key(name)
+        own = lines_of_form(form, key)
         if own and section != last:
-            lines.append(f"[{section}]")
+            lines.append(section_line(section))
             last = section
         lines.extend(own)
         if len(lines) > MOST_LINES:
@@ -39,11 +47,14 @@ def normal_form(rows):
     fact = lowest_fact(rows)
     if fact is None:
         return meaning_of_rows(rows)
-    values = values_on(rows, fact)
-    chosen = split(rows, fact, [None, *values])
-    other = normal_form(chosen[None])
-    forms = [(value, normal_form(chosen[value])) for value in values]
-    branches = tuple([branch for branch in forms if branch[1] != other])
+    chosen = split(rows, fact, [None, *values_on(rows, fact)])
+    return form_of_fact(fact, {value: normal_form(left) for value, left in chosen.items()})
+
+
+def form_of_fact(fact, forms):
+    """The normal form of the forms for each value of a fact, ascending, and for None, which is all else."""
+    other = forms[None]
+    branches = tuple([(value, form) for value, form in forms.items() if form != other])
     return ("fact", fact, branches, other) if branches else other
 
 

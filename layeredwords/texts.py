@@ -126,6 +126,18 @@ def read_whens(text):
     return tuple([form[1:] for form in forms if form[0] == "when"])
 
 
+def section_at_end(text):
+    """The section in force at the end of a string that is known to be a text; empty for none."""
+    forms = [form_of(line) for line in rows_of(text)]
+    sections = [form[1] for form in forms if form[0] == "section"]
+    return sections[-1] if sections else ""
+
+
+def section_line(section):
+    """The line behind which a section, or none if it is empty, is in force."""
+    return f"[{section}]"
+
+
 def statement_line(word, key, items):
     """The line of a statement, without blanks or a comment."""
     if word not in SIGN_OF_WORD:

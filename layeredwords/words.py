@@ -1,4 +1,4 @@
-"""What texts and meanings are made of: sequences, words, keys and sections."""
+"""What texts and meanings are made of: sequences, integers, words, keys and sections."""
 
 LONGEST = 40
 MOST_SECTION_WORDS = 4
@@ -17,9 +17,14 @@ def is_sequence(value):
     return isinstance(value, (list, tuple))
 
 
-def is_ascending(strings):
-    """Whether each string of a sequence is greater than the one ahead of it."""
-    return all([low < high for low, high in zip(strings, strings[1:])])
+def is_whole_number(value):
+    """Whether value is an integer, which True and False are not."""
+    return isinstance(value, int) and not isinstance(value, bool)
+
+
+def is_ascending(values):
+    """Whether each of a sequence of strings, or of integers, is greater than the one ahead of it."""
+    return all([low < high for low, high in zip(values, values[1:])])
 
 
 def is_made_of(value, signs):

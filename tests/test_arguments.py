@@ -7,13 +7,14 @@ from layeredwords.errors import BadLine, BadValue, TooMany
 from layeredwords.normal import normal, normal_text
 from layeredwords.readers import facts_of, names_of, readers
 from layeredwords.seeing import see, why
+from layeredwords.wishes import changes, wish
 
 # Each function, what stands ahead of a stack among its arguments, and what stands behind it.
 STACKS = (
     (see, (), ((), "x")), (why, (), ((), "x")), (meaning, (), ((), "x")),
     (facts_of, (), ()), (readers, (), ()), (names_of, (), ()),
     (alike, (), ((),)), (alike, ((),), ()), (apart, (), ((),)), (apart, ((),), ()),
-    (normal, (), ("x",)), (normal_text, (), ()),
+    (normal, (), ("x",)), (normal_text, (), ()), (wish, (), ((), (), "x", None)), (changes, (), (0, (), "x")),
 )
 # The same, with wrong arguments behind the stack.
 WRONG_BEHIND = (
@@ -128,7 +129,7 @@ class ReadersAndNames(Errors):
     def test_readers_come_behind_the_other_errors(self):
         many = "".join(f"when {fact} is v\nend\n" for fact in "abcdefghij")
         for function, ahead, behind in STACKS:
-            if function not in (see, why, meaning, facts_of, names_of):
+            if function not in (see, why, meaning, facts_of, names_of, wish, changes):
                 self.raises(TooMany, {"word": "readers"}, function, *ahead, (many,), *behind)
                 self.raises(BadLine, {"layer": 1, "at": 2}, function, *ahead, (many, "x = a\n\nbad\n"), *behind)
                 self.raises(TooMany, {"word": "lines"}, function, *ahead, (many * 101,), *behind)

@@ -1,11 +1,12 @@
-"""What later modules stand on: [17] and [18] holds, [19] check_stack, [28] trials."""
+"""What later modules stand on: [12] integers, [16] sections, [17] and [18] holds, [19] check_stack, [28] trials."""
 
 import itertools
 import unittest
 
 from layeredwords.errors import BadLine, BadValue, TooMany
 from layeredwords.meanings import act, meaning_of, nothing, then, trials
-from layeredwords.texts import check_stack, holds, statements
+from layeredwords.texts import check_stack, holds, section_at_end, statements
+from layeredwords.words import is_ascending, is_whole_number
 
 
 def held(text, reader):
@@ -69,6 +70,29 @@ class Stacks(unittest.TestCase):
             with self.assertRaises(BadLine) as caught:
                 check_stack(stack, 1)
             self.assertEqual((caught.exception.layer, caught.exception.at), (layer, at))
+
+
+class Numbers(unittest.TestCase):
+    def test_whole_numbers(self):
+        for value in (0, 1, -1, 10 ** 30, -10 ** 30):
+            self.assertIs(is_whole_number(value), True)
+        for value in (True, False, None, "", "1", (), [], (1,)):
+            self.assertIs(is_whole_number(value), False)
+
+    def test_ascending(self):
+        for values in ((), (3,), (0, 1, 5), [-2, -1], ("B", "a"), ["a", "aa"]):
+            self.assertIs(is_ascending(values), True)
+        for values in ((0, 0), (1, 0), [0, 2, 1], ("a", "a"), ("a", "B")):
+            self.assertIs(is_ascending(values), False)
+
+
+class Sections(unittest.TestCase):
+    def test_at_the_end(self):
+        for text, wanted in (
+            ("", ""), ("x = a\n# [s]\n", ""), ("[s]\nx = a\n", "s"), ("[s]\n  [t.u] # c\n\n", "t.u"), ("[s]\n[]#c\n", ""),
+            ("when os is a\n[s]\nend\n", "s"),
+        ):
+            self.assertEqual(section_at_end(text), wanted)
 
 
 class Trials(unittest.TestCase):

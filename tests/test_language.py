@@ -44,12 +44,33 @@ class Rules(unittest.TestCase):
             "readers": ("facts_of", "readers", "names_of"),
             "comparing": ("meaning", "alike", "apart"),
             "normal": ("normal", "normal_text"),
+            "editing": ("put", "without"),
+            "wishes": ("wish", "changes"),
+            "merging": ("merge",),
+            "console": ("Console",),
         }
         for name, wanted in listed.items():
             tree = ast.parse((PACKAGE / f"{name}.py").read_text())
             found = [node.name for node in tree.body if isinstance(node, (ast.FunctionDef, ast.ClassDef))]
             for each in wanted:
                 self.assertEqual(found.count(each), 1, (name, each))
+
+    def test_methods_are_defined_in_the_class(self):
+        tree = ast.parse((PACKAGE / "console.py").read_text())
+        body = next(node.body for node in tree.body if isinstance(node, ast.ClassDef) and node.name == "Console")
+        found = [node.name for node in body if isinstance(node, ast.FunctionDef)]
+        for each in ("__init__", "run", "log", "replayed"):
+            self.assertEqual(found.count(each), 1, each)
+
+    def test_every_import_is_from_the_file_that_defines_the_name(self):
+        for path in FILES:
+            for node in ast.parse(path.read_text()).body:
+                if isinstance(node, ast.ImportFrom):
+                    source = ast.parse((PACKAGE / f"{node.module.split('.')[1]}.py").read_text())
+                    defined = [each.name for each in source.body if isinstance(each, (ast.FunctionDef, ast.ClassDef))]
+                    defined += [each.targets[0].id for each in source.body if isinstance(each, ast.Assign)]
+                    for alias in node.names:
+                        self.assertIn(alias.name, defined, path)
 
 
 if __name__ == "__main__":
